@@ -1,0 +1,1 @@
+"""Looksfar: how far must each node of a network look."""

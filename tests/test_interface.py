@@ -1,0 +1,52 @@
+"""The names, the parameters and the places of what DOC.md lists, as far as it is built."""
+
+import importlib
+import inspect
+import unittest
+
+FUNCTIONS = {
+    "tasks": {
+        "check_task": ["task"],
+        "turned": ["task"],
+        "row_allowed": ["task", "side", "number", "row"],
+        "read_task": ["text"],
+        "write_task": ["task"],
+    },
+    "views": {
+        "all_views": ["D", "own", "other", "reach"],
+        "all_branches": ["D", "own", "other", "reach", "colour"],
+        "seen_through": ["view", "colour"],
+        "reach_of": ["view"],
+        "is_view": ["value", "D", "own", "other", "reach"],
+    },
+}
+
+CLASSES = {
+    "errors": ["LookError", "BadTask", "BadAlgorithm", "BadNetwork", "BadReach", "BadEasing", "NoRows", "TooMany",
+               "BadText"],
+}
+
+
+class InterfaceTest(unittest.TestCase):
+
+    def test_functions(self):
+        for file, functions in FUNCTIONS.items():
+            module = importlib.import_module("looksfar." + file)
+            for name, parameters in functions.items():
+                with self.subTest(file=file, name=name):
+                    function = getattr(module, name)
+                    self.assertTrue(inspect.isfunction(function))
+                    self.assertEqual(function.__module__, module.__name__)
+                    self.assertEqual(list(inspect.signature(function).parameters), parameters)
+
+    def test_classes(self):
+        for file, names in CLASSES.items():
+            module = importlib.import_module("looksfar." + file)
+            for name in names:
+                with self.subTest(file=file, name=name):
+                    self.assertTrue(inspect.isclass(getattr(module, name)))
+                    self.assertEqual(getattr(module, name).__module__, module.__name__)
+
+
+if __name__ == "__main__":
+    unittest.main()

@@ -1,0 +1,110 @@
+"""Some of the rules of LANGUAGE.md, those that are easily looked at, over the files of the package."""
+
+import ast
+import builtins
+import re
+import unittest
+from pathlib import Path
+
+FOLDER = Path(__file__).resolve().parent.parent / "looksfar"
+
+# What of L8 the package uses; a builtin that is needed later is added here once L8 is read again.
+BUILTINS = """len range enumerate zip min max sum abs sorted reversed int str bool list tuple dict set isinstance
+any all divmod ValueError KeyError""".split()
+
+METHODS = """append clear copy count endswith extend find get index insert isalnum isalpha isdigit islower isspace
+isupper items join keys ljust lower lstrip partition pop remove replace reverse rfind rjust rpartition rsplit rstrip
+setdefault split splitlines startswith strip update upper values zfill bit_length isascii add""".split()
+
+WORDS = """type typing typing_extensions enum Enum IntEnum StrEnum Flag IntFlag Generic Protocol ABC ABCMeta namedtuple
+NamedTuple TypedDict TYPE_CHECKING abstractmethod dataclass overload contextmanager register mro elements open input
+law""".split()
+
+
+def files():
+    return [(path, path.read_text(encoding="utf-8")) for path in sorted(FOLDER.glob("*.py"))]
+
+
+def without_docstrings(tree):
+    """The nodes of a file without its docstrings."""
+    docs = [node.body[0].value for node in ast.walk(tree)
+            if isinstance(node, (ast.Module, ast.ClassDef, ast.FunctionDef)) and ast.get_docstring(node) is not None]
+    return [node for node in ast.walk(tree) if node not in docs]
+
+
+def bound_names(nodes):
+    """The names that a file gives to something, attributes not among them."""
+    names = []
+    for node in nodes:
+        if isinstance(node, (ast.FunctionDef, ast.ClassDef)):
+            names.append(node.name)
+        elif isinstance(node, ast.arg):
+            names.append(node.arg)
+        elif isinstance(node, ast.Name) and not isinstance(node.ctx, ast.Load):
+            names.append(node.id)
+    return names
+
+
+class RulesTest(unittest.TestCase):
+
+    def test_only_python_files_stand_in_the_folder(self):
+        names = sorted(path.name for path in FOLDER.iterdir() if path.name != "__pycache__")
+        self.assertEqual(names, [path.name for path, _ in files()])
+        self.assertIn("__init__.py", names)
+        for name in names:
+            self.assertTrue(re.fullmatch(r"[a-z_]+\.py", name), name)
+
+    def test_characters_and_sizes(self):
+        for path, text in files():
+            with self.subTest(path.name):
+                self.assertTrue(all(" " <= sign <= "~" or sign == "\n" for sign in text))
+                self.assertLessEqual(len(text.splitlines()), 399)
+                self.assertLessEqual(max(len(line) for line in text.splitlines()), 120)
+                for node in ast.walk(ast.parse(text)):
+                    if isinstance(node, ast.FunctionDef):
+                        self.assertLessEqual(node.end_lineno - node.lineno + 1, 40, node.name)
+
+    def test_imports_name_the_file_that_defines(self):
+        defined = set()
+        for path, text in files():
+            for node in ast.parse(text).body:
+                if isinstance(node, (ast.FunctionDef, ast.ClassDef)):
+                    defined.add((f"looksfar.{path.stem}", node.name))
+        for path, text in files():
+            for node in ast.walk(ast.parse(text)):
+                self.assertNotIsInstance(node, ast.Import)
+                if isinstance(node, ast.ImportFrom):
+                    self.assertEqual(node.level, 0)
+                    for alias in node.names:
+                        self.assertIsNone(alias.asname)
+                        self.assertIn((node.module, alias.name), defined)
+
+    def test_names(self):
+        for path, text in files():
+            nodes = without_docstrings(ast.parse(text))
+            with self.subTest(path.name):
+                for name in bound_names(nodes):
+                    self.assertNotIn(name, dir(builtins))
+                    self.assertTrue(re.fullmatch(r"_|_?[A-Za-z][A-Za-z0-9_]*|__init__", name), name)
+                for node in nodes:
+                    if isinstance(node, ast.Name) and node.id in dir(builtins):
+                        self.assertIn(node.id, BUILTINS)
+                    if isinstance(node, ast.Call) and isinstance(node.func, ast.Attribute):
+                        self.assertIn(node.func.attr, METHODS)
+
+    def test_barred_words_and_signs(self):
+        for path, text in files():
+            with self.subTest(path.name):
+                for node in without_docstrings(ast.parse(text)):
+                    self.assertNotIsInstance(node, (ast.AsyncFunctionDef, ast.Global, ast.Div))
+                    if isinstance(node, ast.Constant):
+                        self.assertNotIsInstance(node.value, (float, complex))
+                        if isinstance(node.value, str):
+                            self.assertNotIn("%", node.value)
+                            self.assertNotIn(node.value, WORDS)
+                    for name in (getattr(node, "id", None), getattr(node, "attr", None), getattr(node, "arg", None)):
+                        self.assertNotIn(name, WORDS)
+
+
+if __name__ == "__main__":
+    unittest.main()
