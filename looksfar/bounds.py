@@ -17,6 +17,14 @@ def check_reach(reach, low, high):
         raise BadReach("not an integer within its bounds")
 
 
+def product_of(numbers):
+    """The product of the numbers, 1 if there are none."""
+    product = 1
+    for number in numbers:
+        product = product * number
+    return product
+
+
 def read_number(word, low, high):
     """The number from low to high that the word writes, or None if it writes none."""
     # A word that is too long is not handed to int, which fails for thousands of figures.

@@ -5,7 +5,7 @@ them a number of labels, and for each input of a white and of a black node the
 ascending tuple of the rows that are allowed there.
 """
 
-from looksfar.bounds import is_number, read_number
+from looksfar.bounds import is_number, product_of, read_number
 from looksfar.errors import BadTask, BadText
 
 LEAST_COLOURS = 2
@@ -13,11 +13,12 @@ MOST_COLOURS = 4
 MOST_INPUTS = 4
 MOST_LABELS = 60
 MOST_ROWS = 4000
+SIDES = ("white", "black")
 
 
 def check_task(task):
     """Returns None, or raises BadTask if the value is not a task."""
-    if not _is_task(task):
+    if not is_task(task):
         raise BadTask("not a task")
 
 
@@ -31,17 +32,13 @@ def turned(task):
 def row_allowed(task, side, number, row):
     """True if the row is allowed at a node of this side with this input."""
     check_task(task)
-    _, _, labels, white, black = task
-    if side == "white":
-        allowed = white
-    elif side == "black":
-        allowed = black
-    else:
+    if side not in SIDES:
         return False
+    allowed = rows_of(task, side)
     if not is_number(number, 0, len(allowed) - 1):
         return False
     # (True, 0) is equal to (1, 0), so a row has to be looked at by itself first.
-    return _is_row(row, labels) and row in allowed[number]
+    return is_row(row, task[2]) and row in allowed[number]
 
 
 def write_task(task):
@@ -76,27 +73,40 @@ def read_task(text):
     return ("task", len(labels), labels, tuple(allowed[:p]), tuple(allowed[p:]))
 
 
-def _is_task(task):
+def rows_of(task, side):
+    """For each input of the nodes of this side the rows that are allowed there."""
+    return task[3] if side == "white" else task[4]
+
+
+def other_side(side):
+    """The side of the nodes next to those of this side."""
+    return "black" if side == "white" else "white"
+
+
+def looked_up(inputs):
+    """For each input its rows as a dict, which is looked up at once also where there are many."""
+    return [{row: True for row in rows} for rows in inputs]
+
+
+def is_task(task):
+    """True if the value is a task."""
     if not isinstance(task, tuple) or len(task) != 5 or task[0] != "task":
         return False
     _, D, labels, white, black = task
-    if not _are_labels(D, labels):
+    if not are_labels(D, labels):
         return False
     return _are_inputs(white, labels) and _are_inputs(black, labels)
 
 
-def _are_labels(D, labels):
+def are_labels(D, labels):
     """True if labels tells the numbers of labels for D colours."""
     if not is_number(D, LEAST_COLOURS, MOST_COLOURS):
         return False
     if not isinstance(labels, tuple) or len(labels) != D:
         return False
-    rows = 1
-    for many in labels:
-        if not is_number(many, 1, MOST_LABELS):
-            return False
-        rows = rows * many
-    return rows <= MOST_ROWS
+    if not all([is_number(many, 1, MOST_LABELS) for many in labels]):
+        return False
+    return product_of(labels) <= MOST_ROWS
 
 
 def _are_inputs(allowed, labels):
@@ -111,14 +121,14 @@ def _are_rows(rows, labels):
     if not isinstance(rows, tuple):
         return False
     for at in range(len(rows)):
-        if not _is_row(rows[at], labels):
+        if not is_row(rows[at], labels):
             return False
         if at > 0 and rows[at - 1] >= rows[at]:
             return False
     return True
 
 
-def _is_row(row, labels):
+def is_row(row, labels):
     """True if row has one label for each colour, below the number of its labels."""
     if not isinstance(row, tuple) or len(row) != len(labels):
         return False
@@ -137,7 +147,7 @@ def _read_head(line):
     if words[0] != "task" or len(words) < 4:
         return None
     D, *labels, p, q = [read_number(word, 0, MOST_LABELS) for word in words[1:]]
-    if not _are_labels(D, tuple(labels)):
+    if not are_labels(D, tuple(labels)):
         return None
     if not is_number(p, 1, MOST_INPUTS) or not is_number(q, 1, MOST_INPUTS):
         return None

@@ -6,6 +6,7 @@ but for the part of the colour whence one came, which is None.
 """
 
 from looksfar.bounds import check_reach, is_number
+from looksfar.choices import choices
 from looksfar.errors import BadReach, TooMany
 
 MOST_REACH = 4
@@ -19,14 +20,14 @@ NO_COLOUR = 0
 def all_views(D, own, other, reach):
     """The list of all views of this reach, in order."""
     check_reach(reach, 0, MOST_REACH)
-    _check_many(D, own, other, reach, NO_COLOUR)
+    check_many(D, own, other, reach, NO_COLOUR)
     return _branches(D, own, other, reach, NO_COLOUR)
 
 
 def all_branches(D, own, other, reach, colour):
     """The list of all branches of this reach behind an edge of this colour, in order."""
     check_reach(reach, 0, MOST_REACH)
-    _check_many(D, own, other, reach, colour)
+    check_many(D, own, other, reach, colour)
     return _branches(D, own, other, reach, colour)
 
 
@@ -39,7 +40,7 @@ def seen_through(view, colour):
     if len(behind) == 1:
         return behind
     # The node behind sees this node, too, by two steps less than this one sees.
-    back = _shortened((number, _put(branches, colour, None)), reach_of(view) - 2)
+    back = shortened((number, _put(branches, colour, None)), reach_of(view) - 2)
     return (behind[0], _put(behind[1], colour, back))
 
 
@@ -59,33 +60,43 @@ def is_view(value, D, own, other, reach):
     return _is_branch(value, D, own, other, reach, NO_COLOUR)
 
 
-def _check_many(D, own, other, reach, colour):
-    # The list is counted before it is made: it may be far too long to be made.
-    if _count(D, own, other, reach, colour) > MOST_VIEWS:
-        raise TooMany("more than 200000 items")
-
-
-def _count(D, own, other, reach, colour):
-    """How many items _branches would give."""
+def count_views(D, own, other, reach, colour=NO_COLOUR):
+    """How many views of this reach there are, or branches behind an edge of this colour."""
     many = own
     if reach > 0:
         for behind in range(1, D + 1):
             if behind != colour:
-                many = many * _count(D, other, own, reach - 1, behind)
+                many = many * count_views(D, other, own, reach - 1, behind)
     return many
+
+
+def check_many(D, own, other, reach, colour=NO_COLOUR):
+    """Returns None, or raises TooMany if there are too many views, or branches, to be listed."""
+    # They are counted before they are made: they may be far too many to be made.
+    if count_views(D, own, other, reach, colour) > MOST_VIEWS:
+        raise TooMany("more than 200000 items")
+
+
+def shortened(view, reach):
+    """The view, or the branch, without the nodes that lie farther than this reach."""
+    if view is None:
+        return None
+    if reach == 0:
+        return (view[0],)
+    return (view[0], tuple([shortened(part, reach - 1) for part in view[1]]))
 
 
 def _branches(D, own, other, reach, colour):
     """The list of all branches behind an edge of this colour, in order."""
     if reach == 0:
         return [(number,) for number in range(own)]
-    rows = [()]
+    parts = []
     for behind in range(1, D + 1):
         if behind == colour:
-            parts = [None]
+            parts.append([None])
         else:
-            parts = _branches(D, other, own, reach - 1, behind)
-        rows = [row + (part,) for row in rows for part in parts]
+            parts.append(_branches(D, other, own, reach - 1, behind))
+    rows = choices(parts)
     return [(number, row) for number in range(own) for row in rows]
 
 
@@ -115,12 +126,3 @@ def _is_branch(value, D, own, other, reach, colour):
 def _put(parts, colour, part):
     """The tuple of parts with this one at this colour."""
     return parts[:colour - 1] + (part,) + parts[colour:]
-
-
-def _shortened(branch, reach):
-    """The branch without the nodes that lie farther than this reach."""
-    if branch is None:
-        return None
-    if reach == 0:
-        return (branch[0],)
-    return (branch[0], tuple([_shortened(part, reach - 1) for part in branch[1]]))

@@ -1,8 +1,9 @@
-"""The helpers of looksfar.bounds."""
+"""The helpers of looksfar.bounds and looksfar.choices."""
 
 import unittest
 
-from looksfar.bounds import check_reach, is_number, read_number
+from looksfar.bounds import check_reach, is_number, product_of, read_number
+from looksfar.choices import choices
 from looksfar.errors import BadReach
 
 
@@ -29,6 +30,17 @@ class BoundsTest(unittest.TestCase):
         for word in ("", "00", "01", "007", "-1", "+1", " 1", "1 ", "1\n", "1.0", "1_0", "x", "\u0661", "\u00b9",
                      "9" * 5000):
             self.assertIsNone(read_number(word, 0, 60))
+
+    def test_products(self):
+        self.assertEqual(product_of(()), 1)
+        self.assertEqual(product_of((7,)), 7)
+        self.assertEqual(product_of([3, 4, 5]), 60)
+
+    def test_choices(self):
+        self.assertEqual(choices([]), [()])
+        self.assertEqual(choices([(0, 2), [None]]), [(0, None), (2, None)])
+        self.assertEqual(choices(((1, 0), (5, 7))), [(1, 5), (1, 7), (0, 5), (0, 7)])
+        self.assertEqual(choices([(1, 0), ()]), [])
 
 
 if __name__ == "__main__":

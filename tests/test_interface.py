@@ -19,6 +19,21 @@ FUNCTIONS = {
         "reach_of": ["view"],
         "is_view": ["value", "D", "own", "other", "reach"],
     },
+    "algorithms": {
+        "check_algorithm": ["task", "algorithm"],
+        "row_at": ["algorithm", "view"],
+        "flaw_of": ["task", "algorithm"],
+        "is_flaw": ["task", "algorithm", "flaw"],
+    },
+    "steps": {
+        "less": ["task"],
+        "sets_of": ["task"],
+        "made_greatest": ["task", "number", "sets"],
+    },
+    "leading": {
+        "led_down": ["task", "algorithm"],
+        "led_up": ["task", "algorithm"],
+    },
 }
 
 CLASSES = {

@@ -70,6 +70,8 @@ class RulesTest(unittest.TestCase):
             for node in ast.parse(text).body:
                 if isinstance(node, (ast.FunctionDef, ast.ClassDef)):
                     defined.add((f"looksfar.{path.stem}", node.name))
+                elif isinstance(node, ast.Assign):
+                    defined.add((f"looksfar.{path.stem}", node.targets[0].id))
         for path, text in files():
             for node in ast.walk(ast.parse(text)):
                 self.assertNotIsInstance(node, ast.Import)
@@ -91,6 +93,16 @@ class RulesTest(unittest.TestCase):
                         self.assertIn(node.id, BUILTINS)
                     if isinstance(node, ast.Call) and isinstance(node.func, ast.Attribute):
                         self.assertIn(node.func.attr, METHODS)
+
+    def test_no_local_name_is_that_of_an_import_or_a_class(self):
+        for path, text in files():
+            tree = ast.parse(text)
+            taken = [alias.name for node in tree.body if isinstance(node, ast.ImportFrom) for alias in node.names]
+            taken += [node.name for node in tree.body if isinstance(node, (ast.ClassDef, ast.FunctionDef))]
+            for node in ast.walk(tree):
+                if isinstance(node, ast.FunctionDef):
+                    for name in bound_names(list(ast.walk(node))[1:]):
+                        self.assertNotIn(name, taken, path.name)
 
     def test_barred_words_and_signs(self):
         for path, text in files():

@@ -187,7 +187,8 @@ class RowAllowedTest(unittest.TestCase):
 
     def test_other_sides(self):
         for side in ("", "White", "white ", "grey", None, True, 0, (), ("white",), ["white"], {"white": 0}):
-            self.assertIs(row_allowed(GOOD, side, 0, (0, 1)), False)
+            for row in ((0, 1), (0, 0), (1, 1)):
+                self.assertIs(row_allowed(GOOD, side, 0, row), False)
 
     def test_other_numbers(self):
         for number in (-1, -2, 2, HUGE, -HUGE, True, False, None, "0", (0,), [0], {}):
