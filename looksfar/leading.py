@@ -13,7 +13,7 @@ def led_down(task, algorithm):
     _check_white(algorithm)
     if algorithm[2] == 0:
         raise BadReach("an algorithm of reach 0 cannot be led down")
-    lesser, sets = step_of(task)
+    _, sets = step_of(task)
     places = [{column[at]: at for at in range(len(column))} for column in sets]
     allowed = looked_up(task[4])
     known = {}

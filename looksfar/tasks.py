@@ -83,6 +83,11 @@ def other_side(side):
     return "black" if side == "white" else "white"
 
 
+def inputs_alike(first, second):
+    """True if the tasks have the same D and numbers of inputs."""
+    return first[1] == second[1] and len(first[3]) == len(second[3]) and len(first[4]) == len(second[4])
+
+
 def looked_up(inputs):
     """For each input its rows as a dict, which is looked up at once also where there are many."""
     return [{row: True for row in rows} for rows in inputs]

@@ -9,8 +9,8 @@ from looksfar.algorithms import check_algorithm, flaw_of, is_flaw, row_at
 from looksfar.views import all_views
 from tests.changing import at_path, paths_of, with_part
 from tests.examples import (
-    all_flaws, chance_algorithm, chance_tasks, echo, echo_row, every_row, made, relay, relay_row, turned_relay_row,
-    unlike)
+    chance_algorithm, chance_tasks, echo, echo_row, every_row, made, relay, relay_row, turned_relay_row, unlike)
+from tests.told import all_flaws
 
 HUGE = 10 ** 5000
 TASK = ("task", 2, (2, 3), (((0, 1), (1, 0)), ((0, 2),)), (((0, 0), (0, 2), (1, 1)),))

@@ -34,6 +34,29 @@ FUNCTIONS = {
         "led_down": ["task", "algorithm"],
         "led_up": ["task", "algorithm"],
     },
+    "widening": {
+        "farther": ["task", "algorithm"],
+        "crossed": ["task", "algorithm"],
+        "both": ["first", "second"],
+        "parts_of": ["first", "second", "algorithm"],
+    },
+    "renaming": {
+        "same_up_to_names": ["first", "second"],
+    },
+    "deciding": {
+        "nowhere": ["task"],
+        "solved": ["task", "reach"],
+        "tidied": ["task"],
+        "least_reach": ["task", "most"],
+    },
+    "easings": {
+        "check_easing": ["first", "second", "easing"],
+        "eased": ["first", "second", "easing", "algorithm"],
+        "check_slow": ["task", "reach", "paper"],
+        "slow_paper": ["task", "reach"],
+        "check_never": ["task", "paper"],
+        "never_paper": ["task", "most"],
+    },
 }
 
 CLASSES = {

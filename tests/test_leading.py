@@ -12,8 +12,9 @@ from looksfar.tasks import turned
 from looksfar.views import all_views
 from tests.changing import with_part
 from tests.examples import (
-    chance_algorithm, chance_tasks, echo, echo_row, every_row, made, relay, relay_row, told_down, told_step, told_up,
-    turned_relay_2_row, turned_relay_row, unlike)
+    chance_algorithm, chance_tasks, echo, echo_row, every_row, made, relay, relay_row, turned_relay_2_row,
+    turned_relay_row, unlike)
+from tests.told import told_down, told_step, told_up
 
 TASK = ("task", 2, (2, 2), (((0, 1), (1, 0)),), (((0, 0), (0, 1), (1, 1)),))
 NO_TASKS = (None, (), list(TASK), TASK[:4], with_part(TASK, (1,), True), with_part(TASK, (3, 0), [(0, 1)]))

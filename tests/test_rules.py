@@ -81,6 +81,16 @@ class RulesTest(unittest.TestCase):
                         self.assertIsNone(alias.asname)
                         self.assertIn((node.module, alias.name), defined)
 
+    def test_no_two_files_import_from_each_other(self):
+        imports = {}
+        for path, text in files():
+            imports[path.stem] = {node.module.split(".")[-1] for node in ast.parse(text).body
+                                  if isinstance(node, ast.ImportFrom)}
+        while imports:
+            free = [name for name, needed in imports.items() if not needed & set(imports)]
+            self.assertNotEqual(free, [], imports)
+            imports = {name: needed for name, needed in imports.items() if name not in free}
+
     def test_names(self):
         for path, text in files():
             nodes = without_docstrings(ast.parse(text))
@@ -103,6 +113,32 @@ class RulesTest(unittest.TestCase):
                 if isinstance(node, ast.FunctionDef):
                     for name in bound_names(list(ast.walk(node))[1:]):
                         self.assertNotIn(name, taken, path.name)
+
+    def test_variables_of_inner_comprehensions(self):
+        comprehensions = (ast.ListComp, ast.SetComp, ast.DictComp, ast.GeneratorExp)
+
+        def variables(node):
+            return {name.id for part in node.generators for name in ast.walk(part.target) if isinstance(name, ast.Name)}
+
+        def look(node, outer, inside, name):
+            if isinstance(node, comprehensions):
+                if inside:
+                    self.assertEqual(variables(node) & outer - {"_"}, set(), name)
+                outer, inside = outer | variables(node), True
+            for child in ast.iter_child_nodes(node):
+                look(child, outer, inside, name)
+
+        def assigned(node):
+            if isinstance(node, comprehensions):
+                return set()
+            names = {node.id} if isinstance(node, ast.Name) and isinstance(node.ctx, ast.Store) else set()
+            names |= {node.arg} if isinstance(node, ast.arg) else set()
+            return names.union(*[assigned(child) for child in ast.iter_child_nodes(node)])
+
+        for path, text in files():
+            for node in ast.walk(ast.parse(text)):
+                if isinstance(node, ast.FunctionDef):
+                    look(node, assigned(node), False, f"{path.name} {node.name}")
 
     def test_barred_words_and_signs(self):
         for path, text in files():

@@ -9,8 +9,8 @@ from looksfar import errors
 from looksfar.steps import less, made_greatest, sets_of
 from looksfar.tasks import check_task
 from tests.changing import with_part
-from tests.examples import (
-    all_sets, chance_tasks, echo, every_row, greatest, relay, told_greatest, told_step, unlike)
+from tests.examples import chance_tasks, echo, every_row, relay, unlike
+from tests.told import all_sets, greatest, told_greatest, told_step
 
 # The instance that the document works out.
 INSTANCE = ("task", 2, (2, 2), (((1, 0),),), (((0, 0), (0, 1), (1, 1)),))
