@@ -16,7 +16,8 @@ def nowhere(task):
     check_task(task)
     inputs = looked_up(task[4])
     allowed = {row: True for row in task[4][0] if all([row in rows for rows in inputs])}
-    able = [[row for row in rows if row in allowed] for rows in task[3]]
+    kinds = _kinds(task[1], allowed)
+    able = [_first_ones(kinds, [row for row in rows if row in allowed]) for rows in task[3]]
     least = _least_rows(allowed, [()] * task[1], able)
     if least is None:
         return None
@@ -84,6 +85,27 @@ def without_rows(task):
     return not all(task[3] + task[4])
 
 
+def _kinds(D, allowed):
+    """For each colour and label the first label with which the same rests of rows are allowed."""
+    rests = [{} for _ in range(D)]
+    for row in allowed:
+        for at in range(D):
+            rests[at].setdefault(row[at], []).append(row[:at] + row[at + 1:])
+    kinds = []
+    for column in rests:
+        first = {}
+        kinds.append({label: first.setdefault(tuple(column[label]), label) for label in column})
+    return kinds
+
+
+def _first_ones(kinds, rows):
+    """The rows without those that have labels of the same kinds as an earlier one, which would do just as well."""
+    first = {}
+    for row in rows:
+        first.setdefault(tuple([column[label] for column, label in zip(kinds, row)]), row)
+    return list(first.values())
+
+
 def _least_rows(allowed, sets, able):
     """The least rows, one of each of the lists, for which with the sets all choices are allowed, or None."""
     if not able:
@@ -105,13 +127,7 @@ def _widened(sets, row):
 
 def _fitting(allowed, sets, rows):
     """Those of the rows with whose labels in the sets all choices are still allowed."""
-    fit = []
-    for at in range(len(sets)):
-        labels = sorted({row[at] for row in rows})
-        fit.append({label: True for label in labels if is_good(allowed, sets[:at] + [(label,)] + sets[at + 1:])})
-    # Most rows fail by a single label, which is looked at once for all of them.
-    near = [row for row in rows if all([label in names for label, names in zip(row, fit)])]
-    return [row for row in near if is_good(allowed, _widened(sets, row))]
+    return [row for row in rows if is_good(allowed, _widened(sets, row))]
 
 
 def _standing(D, inputs):

@@ -99,6 +99,18 @@ class NowhereTest(unittest.TestCase):
                 task = task_with(labels, white, black)
                 self.assert_nowhere(task, told_nowhere(task))
 
+    def test_labels_that_do_the_same(self):
+        # Labels 0 and 2 of colour 1 have the same rows at black nodes, but not at white ones.
+        black = ((0, 0), (0, 1), (1, 1), (2, 0), (2, 1))
+        white = (((1, 1), (2, 0)), ((0, 0), (0, 1), (2, 0)), ((0, 1), (2, 1)))
+        self.assert_nowhere(task_with((3, 2), white, (black,)), {(0,): (1, 1), (1,): (0, 1), (2,): (0, 1)})
+        self.assert_nowhere(task_with((3, 2), (white[0][1:],) + white[1:], (black,)),
+                            {(0,): (2, 0), (1,): (0, 0), (2,): (0, 1)})
+        halves = tuple(row for row in every_row((60, 60)) if (row[0] < 30) == (row[1] < 30))
+        white = tuple(tuple(row for row in halves if (row[0] < 30) == (x < 2)) for x in range(4))
+        self.assert_nowhere(task_with((60, 60), white, (halves,)), None)
+        self.assert_nowhere(task_with((60, 60), white[2:], (halves,)), {(0,): (30, 30), (1,): (30, 30)})
+
     def test_many_labels(self):
         every = every_row((60, 60))
         self.assert_nowhere(task_with((60, 60), (every,) * 4, (every,) * 4), {(x,): (0, 0) for x in range(4)})
