@@ -13,7 +13,7 @@ def check_easing(first, second, easing):
     """True if the value is an easing of the first task to the second."""
     check_task(first)
     check_task(second)
-    return _is_easing(first, second, easing)
+    return is_easing(first, second, easing)
 
 
 def eased(first, second, easing, algorithm):
@@ -21,10 +21,9 @@ def eased(first, second, easing, algorithm):
     check_task(first)
     check_task(second)
     check_algorithm(first, algorithm)
-    if not _is_easing(first, second, easing):
+    if not is_easing(first, second, easing):
         raise BadEasing("not an easing of the first task to the second")
-    word, side, reach, table = algorithm
-    return (word, side, reach, {view: _exchanged(easing, row) for view, row in table.items()})
+    return relabelled(easing, algorithm)
 
 
 def check_slow(task, reach, paper):
@@ -41,12 +40,7 @@ def slow_paper(task, reach):
     """A paper of slowness for the task and the reach, or None."""
     check_task(task)
     check_reach(reach, 0, MOST_STEPS_AWAY)
-    try:
-        pairs = _plain_pairs(task, reach)
-    except (NoRows, TooMany):
-        return None
-    last = pairs[-1][0] if reach > 0 else task
-    return pairs if nowhere(last) is None else None
+    return plain_paper(task, reach, False)
 
 
 def check_never(task, paper):
@@ -81,7 +75,8 @@ def never_paper(task, most):
     return (j + 1, pairs + (_closing_pair(tidied(tasks[i])[0], tidied(tasks[j])[0]),))
 
 
-def _is_easing(first, second, easing):
+def is_easing(first, second, easing):
+    """True if the value is an easing of the first task to the second."""
     if not inputs_alike(first, second) or not isinstance(easing, tuple) or len(easing) != first[1]:
         return False
     for names, many, most in zip(easing, first[2], second[2]):
@@ -93,6 +88,25 @@ def _is_easing(first, second, easing):
         if not all([_exchanged(easing, row) in allowed for row in rows]):
             return False
     return True
+
+
+def relabelled(easing, algorithm):
+    """The algorithm with its labels exchanged."""
+    word, side, reach, table = algorithm
+    return (word, side, reach, {view: _exchanged(easing, row) for view, row in table.items()})
+
+
+def plain_paper(task, reach, quick):
+    """The pairs whose easings leave all labels as they are; None where less raises or they end otherwise than told.
+
+    For a paper of quickness the last task has an algorithm of reach 0, for one of slowness it has none.
+    """
+    try:
+        pairs = _plain_pairs(task, reach)
+    except (NoRows, TooMany):
+        return None
+    last = pairs[-1][0] if reach > 0 else task
+    return pairs if (nowhere(last) is not None) == quick else None
 
 
 def _exchanged(easing, row):
@@ -110,7 +124,7 @@ def _tasks_of(task, pairs):
             lesser = less(tidied(tasks[-1])[0])
         except (NoRows, TooMany):
             return None
-        if not _is_easing(lesser, pair[0], pair[1]):
+        if not is_easing(lesser, pair[0], pair[1]):
             return None
         tasks.append(pair[0])
     return tasks

@@ -40,8 +40,8 @@ def seen_through(view, colour):
     if len(behind) == 1:
         return behind
     # The node behind sees this node, too, by two steps less than this one sees.
-    back = shortened((number, _put(branches, colour, None)), reach_of(view) - 2)
-    return (behind[0], _put(behind[1], colour, back))
+    back = shortened((number, put(branches, colour, None)), reach_of(view) - 2)
+    return (behind[0], put(behind[1], colour, back))
 
 
 def reach_of(view):
@@ -86,6 +86,11 @@ def shortened(view, reach):
     return (view[0], tuple([shortened(part, reach - 1) for part in view[1]]))
 
 
+def put(parts, colour, part):
+    """The tuple of parts with this one at this colour."""
+    return parts[:colour - 1] + (part,) + parts[colour:]
+
+
 def _branches(D, own, other, reach, colour):
     """The list of all branches behind an edge of this colour, in order."""
     if reach == 0:
@@ -121,8 +126,3 @@ def _is_branch(value, D, own, other, reach, colour):
         if not right:
             return False
     return True
-
-
-def _put(parts, colour, part):
-    """The tuple of parts with this one at this colour."""
-    return parts[:colour - 1] + (part,) + parts[colour:]

@@ -11,12 +11,11 @@ from looksfar.deciding import least_reach, nowhere, solved, tidied
 from looksfar.easings import check_easing, check_never, check_slow, eased, never_paper, slow_paper
 from looksfar.steps import less
 from looksfar.tasks import turned
-from tests.changing import at_path, paths_of, with_part
+from tests.changing import HUGE, changed_values, with_part
 from tests.examples import chance_algorithm, chance_tasks, echo, echo_row, every_row, made, relay, unlike
 from tests.told import (
     all_flaws, told_easing, told_never, told_never_paper, told_nowhere, told_plain_pairs, told_slow)
 
-HUGE = 10 ** 5000
 TASK = ("task", 2, (2, 3), (((0, 1), (1, 0)), ((0, 2),)), (((0, 0), (0, 2), (1, 1)),))
 NO_TASKS = (None, (), 5, list(TASK), TASK[:4], with_part(TASK, (1,), True), with_part(TASK, (3, 0), [(0, 1)]))
 NO_ALGORITHMS = (None, (), 0, "algorithm", [], {}, ("algorithm", "white", 1, {}), ("algorithm", "grey", 1, {}))
@@ -46,18 +45,6 @@ def task_with(labels, white, black):
 def plain(task):
     """The easing that leaves all labels of the task as they are."""
     return tuple(tuple(range(many)) for many in task[2])
-
-
-def changed_values(value, parts=()):
-    """The value with one place changed, in many ways."""
-    for path in paths_of(value):
-        part = at_path(value, path)
-        others = [True, False, None, -1, 0, 1, 2, 60, HUGE, "0", "", [], {}, (), (0,), *parts]
-        if isinstance(part, tuple):
-            others.extend([list(part), part[1:], part[:-1], part + (0,), part + part[-1:], part[::-1], (part,)])
-        for other in others:
-            if other.__class__ is not part.__class__ or other != part:
-                yield with_part(value, path, other)
 
 
 class CheckEasingTest(unittest.TestCase):

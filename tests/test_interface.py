@@ -57,6 +57,24 @@ FUNCTIONS = {
         "check_never": ["task", "paper"],
         "never_paper": ["task", "most"],
     },
+    "networks": {
+        "check_network": ["network", "task"],
+        "view_in": ["network", "side", "node", "reach"],
+        "labelled": ["task", "network", "algorithm"],
+        "is_content": ["task", "network", "rows"],
+        "network_showing": ["task", "flaw"],
+    },
+    "quickness": {
+        "check_quick": ["task", "reach", "paper"],
+        "quick_algorithm": ["task", "paper"],
+        "quick_paper": ["task", "reach"],
+    },
+    "kinds": {
+        "check_plain": ["network"],
+        "views_by_messages": ["network", "rounds"],
+        "kinds": ["network"],
+        "base_of": ["network"],
+    },
 }
 
 CLASSES = {

@@ -278,8 +278,11 @@ def told_easing(first, second, easing):
                for place in (3, 4) for rows, allowed in zip(first[place], second[place]) for row in rows)
 
 
-def told_tasks(task, pairs):
-    """The given task and those of the pairs of a paper, or None if the pairs are not right."""
+def told_tasks(task, pairs, own_to_less=False):
+    """The given task and those of the pairs of a paper, or None if the pairs are not right.
+
+    Easings lead to the pair's own task, or, in papers of quickness, from it.
+    """
     tasks = [task]
     for pair in pairs:
         if not isinstance(pair, tuple) or len(pair) != 2 or not is_right_task(pair[0]):
@@ -288,7 +291,8 @@ def told_tasks(task, pairs):
         if sum(tidy[2]) > 14 or not any(tidy[4]):
             return None
         lesser = told_step(tidy)[0]
-        if too_large(lesser) or not told_easing(lesser, pair[0], pair[1]):
+        first, second = (pair[0], lesser) if own_to_less else (lesser, pair[0])
+        if too_large(lesser) or not told_easing(first, second, pair[1]):
             return None
         tasks.append(pair[0])
     return tasks
@@ -354,3 +358,23 @@ def told_never_paper(task, most):
         tuple(column.index(tuple(sorted(name[label] for label in labels))) for labels in own)
         for own, column, name in zip(told_step(tidy[i])[1], sets, names))
     return (j + 1, pairs + ((lesser, easing),))
+
+
+def told_quick(task, reach, paper):
+    """Whether it is a paper of quickness."""
+    if not isinstance(paper, tuple) or len(paper) != reach:
+        return False
+    tasks = told_tasks(task, paper, True)
+    return tasks is not None and told_nowhere(tasks[-1]) is not None
+
+
+def told_quick_table(task, paper):
+    """The table of the algorithm that comes of a right paper of quickness."""
+    tasks = [task] + [pair[0] for pair in paper]
+    table = told_nowhere(tasks[-1])
+    for steps, (ahead, pair) in enumerate(zip(tasks[-2::-1], paper[::-1])):
+        tidy, kept = told_tidied(ahead)
+        exchanged = {view: tuple(names[label] for names, label in zip(pair[1], row)) for view, row in table.items()}
+        table = told_up(tidy, ("algorithm", "white", steps, exchanged))
+        table = {view: tuple(labels[label] for labels, label in zip(kept, row)) for view, row in table.items()}
+    return table
