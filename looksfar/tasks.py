@@ -25,8 +25,7 @@ def check_task(task):
 def turned(task):
     """The task with white and black exchanged."""
     check_task(task)
-    word, D, labels, white, black = task
-    return (word, D, labels, black, white)
+    return sides_exchanged(task)
 
 
 def row_allowed(task, side, number, row):
@@ -44,33 +43,51 @@ def row_allowed(task, side, number, row):
 def write_task(task):
     """The text of the task."""
     check_task(task)
-    _, D, labels, white, black = task
-    numbers = [D, *labels, len(white), len(black)]
-    lines = [" ".join(["task"] + [str(number) for number in numbers])]
-    lines.extend([_write_rows("white", rows) for rows in white])
-    lines.extend([_write_rows("black", rows) for rows in black])
-    return "\n".join(lines)
+    return "\n".join(lines_of(task))
 
 
 def read_task(text):
     """The task that the text writes; raises BadText with the place where it goes wrong."""
     lines = text.split("\n")
-    head = _read_head(lines[0])
+    task, place = read_lines(lines, 0)
+    if place < len(lines):
+        raise BadText(place)
+    return task
+
+
+def lines_of(task):
+    """The lines of the text of the task."""
+    _, D, labels, white, black = task
+    numbers = [D, *labels, len(white), len(black)]
+    lines = [" ".join(["task"] + [str(number) for number in numbers])]
+    lines.extend([_write_rows("white", rows) for rows in white])
+    lines.extend([_write_rows("black", rows) for rows in black])
+    return lines
+
+
+def read_lines(lines, start):
+    """The task that the lines from this place on write, and the place behind it; raises BadText as read_task."""
+    head = _read_head(lines[start])
     if head is None:
-        raise BadText(0)
+        raise BadText(start)
     labels, p, q = head
-    sides = ["white"] * p + ["black"] * q
     allowed = []
-    for place in range(1, len(lines)):
-        if place > len(sides):
+    place = start
+    for side in ["white"] * p + ["black"] * q:
+        place += 1
+        if place == len(lines):
             raise BadText(place)
-        rows = _read_rows(sides[place - 1], lines[place], labels)
+        rows = _read_rows(side, lines[place], labels)
         if rows is None:
             raise BadText(place)
         allowed.append(rows)
-    if len(allowed) < len(sides):
-        raise BadText(len(lines))
-    return ("task", len(labels), labels, tuple(allowed[:p]), tuple(allowed[p:]))
+    return (("task", len(labels), labels, tuple(allowed[:p]), tuple(allowed[p:])), place + 1)
+
+
+def sides_exchanged(task):
+    """What turned gives for a task."""
+    word, D, labels, white, black = task
+    return (word, D, labels, black, white)
 
 
 def rows_of(task, side):
@@ -140,10 +157,19 @@ def is_row(row, labels):
     return all([is_number(label, 0, many - 1) for label, many in zip(row, labels)])
 
 
+def write_row(row):
+    """The word that writes the labels."""
+    return ",".join([str(label) for label in row])
+
+
+def read_row(word):
+    """The labels that the word writes, with None for what is no label."""
+    return tuple([read_number(part, 0, MOST_LABELS - 1) for part in word.split(",")])
+
+
 def _write_rows(side, rows):
     """The line that tells the rows of one input."""
-    words = [",".join([str(label) for label in row]) for row in rows]
-    return " ".join([side] + words)
+    return " ".join([side] + [write_row(row) for row in rows])
 
 
 def _read_head(line):
@@ -164,12 +190,7 @@ def _read_rows(side, line, labels):
     words = line.split(" ")
     if words[0] != side:
         return None
-    rows = tuple([_read_row(word) for word in words[1:]])
+    rows = tuple([read_row(word) for word in words[1:]])
     if not _are_rows(rows, labels):
         return None
     return rows
-
-
-def _read_row(word):
-    """The labels that the word writes, with None for what is no label."""
-    return tuple([read_number(part, 0, MOST_LABELS - 1) for part in word.split(",")])

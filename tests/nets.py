@@ -160,6 +160,27 @@ def told_least_content(task, network):
     return None
 
 
+def least_content_by_turns(task, network):
+    """The same, white node by white node: a row is passed over if a black node has then all its labels, but no row."""
+    D = len(network[2])
+    ends = [[behind(network, "black", node, colour)[1] for colour in range(1, D + 1)] for node in range(network[1])]
+
+    def filled(rows):
+        if len(rows) == network[1]:
+            return rows
+        done = len(rows)
+        for row in task[3][network[3][done]]:
+            now = rows + [row]
+            told = [(y, tuple(now[end][at] for at, end in enumerate(own)))
+                    for y, own in zip(network[4], ends) if max(own) == done]
+            if all(each in task[4][y] for y, each in told):
+                found = filled(now)
+                if found is not None:
+                    return found
+        return None
+    return filled([])
+
+
 def told_showing(D, kind, view):
     """The network of [21]: its nodes are named by their places in the view, its twins by ("twin", place)."""
     side = "white" if kind == "own" else "black"

@@ -1,8 +1,10 @@
-"""The names, the parameters and the places of what DOC.md lists, as far as it is built."""
+"""The names, the parameters and the places of what DOC.md lists."""
 
 import importlib
 import inspect
 import unittest
+
+from looksfar.book import Book
 
 FUNCTIONS = {
     "tasks": {
@@ -75,11 +77,35 @@ FUNCTIONS = {
         "kinds": ["network"],
         "base_of": ["network"],
     },
+    "covers": {
+        "cover_of": ["network", "turns"],
+        "content_rows": ["task", "network"],
+        "even_rows": ["task", "network"],
+    },
+    "relays": {
+        "relay": ["steps"],
+    },
+    "texts": {
+        "read_algorithm": ["task", "text"],
+        "write_algorithm": ["task", "algorithm"],
+        "read_pairs": ["text"],
+        "write_pairs": ["pairs"],
+    },
 }
 
 CLASSES = {
     "errors": ["LookError", "BadTask", "BadAlgorithm", "BadNetwork", "BadReach", "BadEasing", "NoRows", "TooMany",
                "BadText"],
+    "book": ["Book"],
+}
+
+BOOK = {
+    "solve": ["task", "algorithm"],
+    "bar": ["task", "reach", "paper"],
+    "close": ["task", "paper"],
+    "ease": ["first", "second", "easing"],
+    "take_back": [],
+    "bounds": ["task"],
 }
 
 
@@ -102,6 +128,15 @@ class InterfaceTest(unittest.TestCase):
                 with self.subTest(file=file, name=name):
                     self.assertTrue(inspect.isclass(getattr(module, name)))
                     self.assertEqual(getattr(module, name).__module__, module.__name__)
+
+    def test_methods_of_a_book(self):
+        for name, parameters in BOOK.items():
+            with self.subTest(name):
+                # Defined in the class itself, not only in a base class.
+                method = vars(Book)[name]
+                self.assertTrue(inspect.isfunction(method))
+                self.assertEqual(list(inspect.signature(method).parameters), ["self"] + parameters)
+        self.assertEqual(list(inspect.signature(Book).parameters), [])
 
 
 if __name__ == "__main__":

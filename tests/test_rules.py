@@ -45,6 +45,12 @@ def bound_names(nodes):
     return names
 
 
+def own_methods():
+    """The names of the methods of the package's classes."""
+    classes = [node for _, text in files() for node in ast.parse(text).body if isinstance(node, ast.ClassDef)]
+    return [node.name for each in classes for node in each.body if isinstance(node, ast.FunctionDef)]
+
+
 class RulesTest(unittest.TestCase):
 
     def test_only_python_files_stand_in_the_folder(self):
@@ -92,6 +98,7 @@ class RulesTest(unittest.TestCase):
             imports = {name: needed for name, needed in imports.items() if name not in free}
 
     def test_names(self):
+        methods = METHODS + own_methods()
         for path, text in files():
             nodes = without_docstrings(ast.parse(text))
             with self.subTest(path.name):
@@ -102,7 +109,7 @@ class RulesTest(unittest.TestCase):
                     if isinstance(node, ast.Name) and node.id in dir(builtins):
                         self.assertIn(node.id, BUILTINS)
                     if isinstance(node, ast.Call) and isinstance(node.func, ast.Attribute):
-                        self.assertIn(node.func.attr, METHODS)
+                        self.assertIn(node.func.attr, methods)
 
     def test_no_local_name_is_that_of_an_import_or_a_class(self):
         for path, text in files():
