@@ -1,6 +1,6 @@
 """Algorithms, and pairs of tasks and easings, as texts."""
 
-from looksfar.algorithms import MOST_STEPS, check_algorithm, check_views, row_at, views_of
+from looksfar.algorithms import MOST_STEPS, check_algorithm, row_at, views_of
 from looksfar.bounds import read_number
 from looksfar.errors import BadText
 from looksfar.tasks import MOST_LABELS, SIDES, check_task, is_row, lines_of, read_lines, read_row, write_row
@@ -14,7 +14,7 @@ def read_algorithm(task, text):
     if head is None:
         raise BadText(0)
     side, reach = head
-    check_views(task, side, reach)
+    # TooMany, where there are too many, comes ahead of what is wrong behind the first line.
     views = views_of(task, side, reach)
     table = {}
     for place in range(1, len(lines)):
